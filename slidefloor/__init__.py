@@ -1,0 +1,1 @@
+"""Slidefloor: tiles on a floor with one empty place."""
