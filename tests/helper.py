@@ -1,5 +1,7 @@
 """What several tests need: floors, standings, and things that are neither."""
 
+import random
+
 from slidefloor.moves import moved, moves
 
 WORDS = ["up", "down", "left", "right"]
@@ -115,3 +117,28 @@ def all_that_come(floor, standing):
                 met.add(then)
                 waiting.append(then)
     return met
+
+
+def drawn(floor, number, seed=1):
+    """So many standings of the floor, the same ones each time."""
+    chance = random.Random(f"{floor} {seed}")
+    places = range(floor[0] * floor[1])
+    return [tuple(chance.sample(places, len(places))) for _ in range(number)]
+
+
+def counts_from(floor, standing):
+    """A dict: each standing that comes of this one, and by how few moves; layer by layer."""
+    counts = {standing: 0}
+    layer = [standing]
+    while layer:
+        following = []
+        for now in layer:
+            empty = now.index(0)
+            for word in WORDS:
+                there = way_there(floor, empty, word)
+                then = now if there is None else exchanged(now, empty, there)
+                if then not in counts:
+                    counts[then] = counts[now] + 1
+                    following.append(then)
+        layer = following
+    return counts

@@ -1,10 +1,14 @@
 import itertools
 import unittest
 
+from slidefloor.box import Box
 from slidefloor.errors import BadFloor, BadStanding
+from slidefloor.few import farthest, fewest
 from slidefloor.floors import need_floor, need_standing, ordered
 from slidefloor.moves import moved, moves
+from slidefloor.notes import standing_text
 from slidefloor.sides import how_many, is_joined, side
+from slidefloor.ways import way
 from tests.helper import BAD_FLOORS, BAD_STANDINGS, FLOORS, FOUR, empties
 
 GOOD = (1, 2, 3, 0)
@@ -19,6 +23,11 @@ TAKE_FLOOR = {
     "side": lambda floor: side(floor, GOOD),
     "is_joined": lambda floor: is_joined(floor, GOOD, GOOD),
     "how_many": lambda floor: how_many(floor, GOOD),
+    "way": lambda floor: way(floor, GOOD, GOOD),
+    "fewest": lambda floor: fewest(floor, GOOD, GOOD),
+    "farthest": lambda floor: farthest(floor, GOOD),
+    "standing_text": lambda floor: standing_text(floor, GOOD),
+    "Box": lambda floor: Box(floor, GOOD),
 }
 
 # Each place at which a function takes a standing, with all else good.
@@ -31,6 +40,15 @@ TAKE_STANDING = {
     "is_joined, other": lambda floor, standing: is_joined(floor, GOOD, standing),
     "is_joined, both": lambda floor, standing: is_joined(floor, standing, standing),
     "how_many": lambda floor, standing: how_many(floor, standing),
+    "way, one": lambda floor, standing: way(floor, standing, GOOD),
+    "way, other": lambda floor, standing: way(floor, GOOD, standing),
+    "way, both": lambda floor, standing: way(floor, standing, standing),
+    "fewest, one": lambda floor, standing: fewest(floor, standing, GOOD),
+    "fewest, other": lambda floor, standing: fewest(floor, GOOD, standing),
+    "fewest, both": lambda floor, standing: fewest(floor, standing, standing),
+    "farthest": lambda floor, standing: farthest(floor, standing),
+    "standing_text": lambda floor, standing: standing_text(floor, standing),
+    "Box": lambda floor, standing: Box(floor, standing),
 }
 
 

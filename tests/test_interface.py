@@ -21,6 +21,27 @@ FUNCTIONS = {
         "is_joined": ["floor", "one", "other"],
         "how_many": ["floor", "standing"],
     },
+    "slidefloor.ways": {
+        "way": ["floor", "one", "other"],
+    },
+    "slidefloor.few": {
+        "fewest": ["floor", "one", "other"],
+        "farthest": ["floor", "standing"],
+    },
+    "slidefloor.notes": {
+        "standing_text": ["floor", "standing"],
+        "standing_of": ["text"],
+    },
+}
+
+BOX_METHODS = {
+    "__init__": ["self", "floor", "standing"],
+    "floor": ["self"],
+    "standing": ["self"],
+    "push": ["self", "word"],
+    "slide": ["self", "tile"],
+    "back": ["self"],
+    "done": ["self"],
 }
 
 PACKAGE = pathlib.Path(__file__).resolve().parent.parent / "slidefloor"
@@ -41,6 +62,16 @@ class InterfaceTest(unittest.TestCase):
                     self.assertTrue(inspect.isfunction(function))
                     self.assertEqual(list(inspect.signature(function).parameters), arguments)
                     self.assertEqual(function.__module__, module_name)
+
+    def test_box_and_its_methods(self):
+        box = importlib.import_module("slidefloor.box").Box
+        self.assertTrue(inspect.isclass(box))
+        self.assertEqual(box.__module__, "slidefloor.box")
+        for name, arguments in BOX_METHODS.items():
+            with self.subTest(name=name):
+                method = vars(box)[name]
+                self.assertTrue(inspect.isfunction(method))
+                self.assertEqual(list(inspect.signature(method).parameters), arguments)
 
 
 class FilesTest(unittest.TestCase):
