@@ -1,6 +1,7 @@
 """What several tests need: floors, standings, and things that are neither."""
 
 import random
+import sys
 
 from slidefloor.moves import moved, moves
 
@@ -142,3 +143,21 @@ def counts_from(floor, standing):
                     following.append(then)
         layer = following
     return counts
+
+
+def lines_run(ask, *handed):
+    """How many lines are run until this is answered: unlike seconds, about the same everywhere."""
+    lines = 0
+
+    def count(frame, event, _):
+        nonlocal lines
+        lines += event == "line"
+        return count
+
+    kept = sys.gettrace()
+    sys.settrace(count)
+    try:
+        ask(*handed)
+    finally:
+        sys.settrace(kept)
+    return lines
